@@ -1,0 +1,1 @@
+"""Lazywebs: functions done as webs, each shared part once."""
