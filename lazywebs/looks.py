@@ -1,7 +1,9 @@
 """Looks whether something, whatever it is, is a program."""
 
 from lazywebs.errors import Hidden, NoProgram, Stranger, Twice
-from lazywebs.parts import PARTS_OF, all_in, row_names, within
+from lazywebs.figures import fits
+from lazywebs.kinds import is_tuple_of, is_whole
+from lazywebs.parts import PARTS_OF, let_names, row_names, within
 from lazywebs.programs import all_functions
 
 LETTERS = "abcdefghijklmnopqrstuvwxyz"
@@ -13,11 +15,6 @@ MOST_PARTS = 60
 MOST_DEEP = 12
 
 
-def is_tuple_of(thing, many):
-    """Whether it is a tuple of so many things."""
-    return isinstance(thing, tuple) and len(thing) == many
-
-
 def is_name(thing):
     """Whether it is a name."""
     if not isinstance(thing, str) or not 1 <= len(thing) <= MOST_LETTERS:
@@ -27,10 +24,7 @@ def is_name(thing):
 
 def is_number(thing):
     """Whether it is a whole number of at most sixty figures."""
-    if not isinstance(thing, int) or isinstance(thing, bool):
-        return False
-    # Python writes out no number of some thousand figures, so none are counted.
-    return abs(thing) < 10 ** 60
+    return is_whole(thing) and fits(thing)
 
 
 def are_let_rows(thing):
@@ -98,10 +92,7 @@ def first_again(names):
 
 def names_of(function):
     """The names of the function's things, then those of its lets' rows."""
-    found = list(function[1])
-    for part in all_in(function[2]):
-        found.extend(row_names(part))
-    return found
+    return [*function[1], *let_names(function[2])]
 
 
 def strangers(part, known, funs):

@@ -26,9 +26,21 @@ def within(part):
 
 def all_in(part):
     """The part and all within it, each one ahead of those within it."""
-    found = [part]
-    for inner in within(part):
-        found.extend(all_in(inner))
+    # Parts that came by steps may be too deep for a function that calls itself.
+    found = []
+    waiting = [part]
+    while waiting:
+        one = waiting.pop()
+        found.append(one)
+        waiting.extend(within(one)[::-1])
+    return found
+
+
+def let_names(part):
+    """The names of the rows of all lets in the part: let by let, row by row."""
+    found = []
+    for one in all_in(part):
+        found.extend(row_names(one))
     return found
 
 

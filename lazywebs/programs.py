@@ -14,6 +14,11 @@ def number_of(program, f):
     return [function[0] for function in all_functions(program)].index(f)
 
 
+def function_of(program, f):
+    """The function of this name, asked for ""."""
+    return all_functions(program)[number_of(program, f)]
+
+
 def places(program):
     """By its number each place: its part, and the number of its function."""
     found = []
@@ -30,5 +35,9 @@ def body_place(program, f):
 
 def wants(program, f):
     """How many things the function wants."""
-    function = all_functions(program)[number_of(program, f)]
-    return len(function[1])
+    return len(function_of(program, f)[1])
+
+
+def most_wanted(program):
+    """How many things the function wants that wants the most."""
+    return max([len(function[1]) for function in program[0]], default=0)
