@@ -91,7 +91,12 @@ def behind_uses(table, lines, node, uses):
 
 def are_right(table, lines):
     """Whether all of the lines are right."""
-    return all([behind_uses(table, lines, line[0], line[1]) == shown_by(line) for line in lines])
+    # In their order and no further than the first that isn't: the worths that
+    # a line uses are then always ones that can be.
+    for line in lines:
+        if behind_uses(table, lines, line[0], line[1]) != shown_by(line):
+            return False
+    return True
 
 
 def is_way_right(table, lines, way, asked):

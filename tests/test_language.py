@@ -1,6 +1,7 @@
 """That the package keeps to the plain rules of its language, and to its interface."""
 
 import ast
+import builtins
 import os
 import unittest
 import warnings
@@ -10,13 +11,60 @@ import lazywebs
 FOLDER = os.path.dirname(os.path.abspath(lazywebs.__file__))
 LIBRARY = {"heapq", "math", "itertools", "collections"}
 
-# By its file each class, or each function with its arguments.
+# By its file each class, or each function with its arguments, or each class
+# with its methods and their arguments.
 INTERFACE = {
     "errors.py": {"LazyError", "NoProgram", "Twice", "Hidden", "Stranger", "More", "NoRows", "NoText", "NoRow"},
     "parts.py": {"within": ["part"], "many_in": ["part"], "deep_in": ["part"]},
     "looks.py": {"looked": ["thing"]},
     "programs.py": {"places": ["program"], "body_place": ["program", "f"], "wants": ["program", "f"]},
+    "putting.py": {"put_in": ["part", "things"], "is_worth": ["program", "part"], "step": ["program", "part"]},
+    "plain.py": {"led": ["program", "part", "most"], "plain_told": ["program", "deep", "most"]},
+    "nodes.py": {"Nodes": {
+        "__init__": ["self", "program"], "node": ["self", "place", "things"], "seen": ["self", "place", "things"],
+        "told": ["self", "number"], "many": ["self"],
+    }},
+    "rules.py": {"behind": ["nodes", "number", "worths"]},
+    "doing.py": {"Doer": {
+        "__init__": ["self", "program"], "asked": ["self"], "nodes": ["self"], "do": ["self", "number", "most"],
+        "told": ["self", "deep", "most"], "calls": ["self"],
+    }},
+    "papers.py": {"paper_of": ["program", "most"]},
+    "judge.py": {"shows": ["program", "thing"]},
+    "rows.py": {"built_rows": ["program", "f"], "lean_rows": ["program", "f"], "all_rows": ["program", "lean"]},
 }
+
+BUILTINS = {
+    "len", "range", "enumerate", "zip", "min", "max", "sum", "abs", "sorted", "reversed", "int", "str", "bool", "list",
+    "tuple", "dict", "set", "isinstance", "ord", "repr", "any", "all", "divmod", "ValueError", "KeyError", "super",
+}
+METHODS = {
+    "append", "clear", "copy", "count", "endswith", "extend", "find", "get", "index", "insert", "isdigit", "items",
+    "join", "keys", "pop", "remove", "replace", "reverse", "setdefault", "split", "startswith", "strip", "update",
+    "values", "__init__",
+}
+BARRED = {"register", "mro", "elements", "open", "input", "law", "version_info", "type", "id", "vars", "dir", "exec", "eval"}
+
+
+def names_bound(tree):
+    """The names of all functions, classes, parameters and variables of a file."""
+    for node in ast.walk(tree):
+        if isinstance(node, (ast.FunctionDef, ast.ClassDef)):
+            yield node.name
+        elif isinstance(node, ast.arg):
+            yield node.arg
+        elif isinstance(node, ast.Name) and isinstance(node.ctx, ast.Store):
+            yield node.id
+
+
+def imports_of(tree):
+    """By its name each thing that the file imports from the package, with its file."""
+    return {alias.name: node.module.split(".")[1] + ".py" for node in ast.walk(tree)
+            if isinstance(node, ast.ImportFrom) and node.module.startswith("lazywebs.") for alias in node.names}
+
+
+def arguments_of(function):
+    return [argument.arg for argument in function.args.args]
 
 
 def sources():
@@ -77,6 +125,94 @@ class Language(unittest.TestCase):
                        if isinstance(node, (ast.FunctionDef, ast.ClassDef))}
             for name in names:
                 self.assertIn(name, defined, file)
-                if isinstance(names, dict):
-                    arguments = [argument.arg for argument in defined[name].args.args]
-                    self.assertEqual(arguments, names[name], (file, name))
+                if isinstance(names, set):
+                    continue
+                if isinstance(names[name], list):
+                    self.assertEqual(arguments_of(defined[name]), names[name], (file, name))
+                else:
+                    methods = {node.name: arguments_of(node) for node in defined[name].body
+                               if isinstance(node, ast.FunctionDef)}
+                    self.assertEqual({method: methods.get(method) for method in names[name]}, names[name], (file, name))
+
+    def test_builtins_that_are_called_are_those_of_the_language(self):
+        for file, tree in self.trees.items():
+            own = set(names_bound(tree)) | set(imports_of(tree))
+            for node in ast.walk(tree):
+                if isinstance(node, ast.Name) and isinstance(node.ctx, ast.Load) and hasattr(builtins, node.id):
+                    self.assertIn(node.id, BUILTINS, file)
+                    self.assertNotIn(node.id, own, file)
+
+    def test_no_name_is_a_builtins_or_is_barred(self):
+        for file, tree in self.trees.items():
+            for name in set(names_bound(tree)) - {"__init__"}:
+                self.assertFalse(hasattr(builtins, name), (file, name))
+                self.assertNotIn(name, BARRED, file)
+
+    def test_methods_that_are_called_are_own_or_those_of_the_language(self):
+        own = {node.name for tree in self.trees.values() for node in ast.walk(tree) if isinstance(node, ast.FunctionDef)}
+        for file, tree in self.trees.items():
+            for node in ast.walk(tree):
+                if isinstance(node, ast.Call) and isinstance(node.func, ast.Attribute):
+                    self.assertIn(node.func.attr, own | METHODS, file)
+
+    def test_no_variable_has_the_name_of_an_import_or_a_class_of_its_file(self):
+        for file, tree in self.trees.items():
+            classes = {node.name for node in tree.body if isinstance(node, ast.ClassDef)}
+            taken = set(imports_of(tree)) | classes
+            top = {id(node) for node in tree.body}
+            for node in ast.walk(tree):
+                if isinstance(node, ast.arg):
+                    self.assertNotIn(node.arg, taken, file)
+                elif isinstance(node, ast.Name) and isinstance(node.ctx, ast.Store):
+                    self.assertNotIn(node.id, taken, file)
+                elif isinstance(node, ast.FunctionDef) and id(node) in top:
+                    self.assertNotIn(node.name, taken, file)
+
+    def test_no_parameter_or_variable_hides_a_function_of_its_file(self):
+        for file, tree in self.trees.items():
+            functions = {node.name for node in tree.body if isinstance(node, ast.FunctionDef)}
+            for node in ast.walk(tree):
+                if isinstance(node, ast.arg):
+                    self.assertNotIn(node.arg, functions, file)
+                elif isinstance(node, ast.Name) and isinstance(node.ctx, ast.Store):
+                    self.assertNotIn(node.id, functions, file)
+
+    def test_each_import_names_the_file_that_defines_it_and_is_used(self):
+        for file, tree in self.trees.items():
+            used = {node.id for node in ast.walk(tree) if isinstance(node, ast.Name)}
+            for name, of in imports_of(tree).items():
+                defined = [node.name for node in self.trees[of].body if isinstance(node, (ast.FunctionDef, ast.ClassDef))]
+                defined += [target.id for node in self.trees[of].body if isinstance(node, ast.Assign) for target in node.targets]
+                self.assertIn(name, defined, (file, of))
+                self.assertIn(name, used, file)
+
+    def test_no_two_files_import_from_each_other(self):
+        imported = {file: set(imports_of(tree).values()) for file, tree in self.trees.items()}
+        left = dict(imported)
+        while left:
+            ready = [file for file, others in left.items() if not others & set(left)]
+            self.assertNotEqual(ready, [], left)
+            for file in ready:
+                del left[file]
+
+    def test_is_stands_beside_none_true_and_false_alone(self):
+        for file, tree in self.trees.items():
+            for node in ast.walk(tree):
+                if isinstance(node, ast.Compare) and any(isinstance(op, (ast.Is, ast.IsNot)) for op in node.ops):
+                    self.assertIsInstance(node.comparators[0], ast.Constant, file)
+
+    def test_no_method_is_an_attribute_of_its_class_and_none_is_both_anywhere(self):
+        methods, attributes = set(), set()
+        for tree in self.trees.values():
+            for node in ast.walk(tree):
+                if isinstance(node, ast.ClassDef):
+                    methods |= {inner.name for inner in node.body if isinstance(inner, ast.FunctionDef)}
+                if isinstance(node, ast.Attribute) and isinstance(node.ctx, ast.Store):
+                    attributes.add(node.attr)
+        self.assertEqual(methods & attributes, set())
+
+    def test_no_statement_beyond_those_of_the_language(self):
+        barred = (ast.Global, ast.AsyncFunctionDef, ast.Await, ast.AsyncFor, ast.AsyncWith, ast.Div, ast.Yield, ast.YieldFrom)
+        for file, tree in self.trees.items():
+            for node in ast.walk(tree):
+                self.assertNotIsInstance(node, barred, file)
