@@ -29,8 +29,10 @@ class Doer:
         return self._calls
 
     def done(self):
-        """The nodes that are done, in the order in which they came to their end:
-        tuples (node, needs that were done, what it came to)."""
+        """The done nodes in the order in which they came to their end.
+
+        Tuples (node, its needs that were done, what it came to).
+        """
         return [(node, tuple(self._needs[node]), come) for node, come in self._kept.items()]
 
     def _behind(self, node, needs):

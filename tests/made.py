@@ -116,6 +116,11 @@ def less(a, b):
     return ("less", a, b)
 
 
+# A closed part without a step for each fault, with its word.
+FAULTS = [
+    (give(number(1), number(2)), "function"), (plus(number(1), ("pair", number(1), number(1))), "number"),
+    (("left", number(1)), "pair"), (("times", number(10 ** 30), number(10 ** 30)), "great"),
+]
 # f n calls f (n - 1) within itself, n times, and comes to n; each call asks n once.
 COUNT = ("count", ("n",), ("when", name("n"), plus(number(1), give(fun("count"), less(name("n"), number(1)))), number(0)))
 # The numbers from n on, without an end.
@@ -132,3 +137,13 @@ def counting(n):
 
 def numbers_from(n):
     return looked(((FROM,), give(fun("from"), number(n))))
+
+
+def says(come):
+    """What a node comes to, or a paper shows, as it is told 0 deep."""
+    if come[0] != "worth":
+        return come
+    worth = come[1]
+    if worth[0] == "function":
+        return ("function", worth[1], len(worth[2]))
+    return worth if worth[0] == "number" else ("pair",)

@@ -6,7 +6,7 @@ from lazywebs.doing import Doer
 from lazywebs.looks import looked
 from lazywebs.nodes import Nodes
 from lazywebs.programs import body_place
-from made import asked_only, counting, gives, less, numbers_from, plus, programs
+from made import FAULTS, asked_only, counting, gives, less, numbers_from, plus, programs
 from plaindoing import PlainDoer
 from samples import ONE, fun, give, let, name, number
 
@@ -18,10 +18,6 @@ CHAIN = (
     ("second", ("a",), give(fun("third"), name("a"))),
     ("third", ("a",), plus(name("a"), ONE)),
 )
-FAULTS = [
-    (give(ONE, TWO), "function"), (plus(ONE, ("pair", ONE, ONE)), "number"), (("left", ONE), "pair"),
-    (("times", number(10 ** 30), number(10 ** 30)), "great"),
-]
 # Of one call each, where it is asked by its own words alone.
 RINGS = [
     let([("x", name("x"))], name("x")),

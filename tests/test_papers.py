@@ -9,15 +9,11 @@ from lazywebs.looks import looked
 from lazywebs.papers import paper_of
 from lazywebs.plain import led
 from lazywebs.programs import body_place
-from made import asked_only, counting, gives, numbers_from, plus, programs
+from made import FAULTS, asked_only, counting, gives, numbers_from, plus, programs
 from plainjudge import due_shown
 from samples import ONE, fun, give, let, name, number
 
 TWO = number(2)
-FAULTS = [
-    (give(ONE, TWO), "function"), (plus(ONE, ("pair", ONE, ONE)), "number"), (("left", ONE), "pair"),
-    (("times", number(10 ** 30), number(10 ** 30)), "great"),
-]
 RINGS = [
     asked_only(let([("x", name("x"))], name("x"))),
     asked_only(let([("x", name("y")), ("y", plus(ONE, name("x")))], ("left", name("y")))),

@@ -5,16 +5,12 @@ import unittest
 
 from lazywebs.looks import looked
 from lazywebs.plain import led, plain_told
-from made import GROWS, WAITS, asked_only, counting, gives, less, numbers_from, plus, programs
+from made import FAULTS, GROWS, WAITS, asked_only, counting, gives, less, numbers_from, plus, programs
 from plainsteps import due_told
 from samples import ONE, SAMPLE, fun, give, let, name, number
 
 TWO, THREE = number(2), number(3)
 MORE = ("more",)
-FAULTS = [
-    (give(ONE, TWO), "function"), (plus(ONE, ("pair", ONE, ONE)), "number"), (("left", ONE), "pair"),
-    (("times", number(10 ** 30), number(10 ** 30)), "great"),
-]
 # An asked part with all six words, and what it leads to.
 TWICE = ("twice", ("a",), plus(name("a"), name("a")))
 LONG = (

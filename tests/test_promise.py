@@ -10,7 +10,7 @@ from lazywebs.looks import looked
 from lazywebs.papers import paper_of
 from lazywebs.plain import led, plain_told
 from lazywebs.rows import all_rows
-from made import GROWS, WAITS, asked_only, counting, gives, plus, programs
+from made import GROWS, WAITS, asked_only, counting, gives, plus, programs, says
 from plainrows import PlainMachine
 from samples import ONE, fun, give, let, name, number
 
@@ -129,13 +129,3 @@ class Promise(unittest.TestCase):
         first = (led(program, program[1], 400), Doer(program).told(0, 400), paper_of(program, 400), all_rows(program, True))
         again = (led(program, program[1], 400), Doer(program).told(0, 400), paper_of(program, 400), all_rows(program, True))
         self.assertEqual(first, again)
-
-
-def says(shown):
-    """What is shown or done, as it is told 0 deep."""
-    if shown[0] != "worth":
-        return shown
-    worth = shown[1]
-    if worth[0] == "function":
-        return ("function", worth[1], len(worth[2]))
-    return worth if worth[0] == "number" else ("pair",)

@@ -160,6 +160,13 @@ class IsWorth(unittest.TestCase):
         for program in (((NONE[0][4], NONE[0][0]), ONE), ((NONE[0][0], NONE[0][4]), ONE)):
             self.assertEqual([is_worth(program, fun(f)) for f in ("none", "four")], [False, True])
 
+    def test_functions_of_many_things_whatever_their_bodies_are(self):
+        names = ("a", "b", "c", "d")
+        for wanted in range(5):
+            program = ((("f", names[:wanted], ONE), ("g", (), PAIR)), ONE)
+            self.assertEqual([is_worth(program, gives(fun("f"), *[ONE] * many)) for many in range(6)],
+                             [many < wanted for many in range(6)])
+
     def test_what_has_a_step_or_a_fault(self):
         for part, _ in STEPS + FAULTS:
             self.told(part, False)
