@@ -32,18 +32,26 @@ INTERFACE = {
     "papers.py": {"paper_of": ["program", "most"]},
     "judge.py": {"shows": ["program", "thing"]},
     "rows.py": {"built_rows": ["program", "f"], "lean_rows": ["program", "f"], "all_rows": ["program", "lean"]},
+    "rowjudge.py": {"lets_by": ["program", "f", "thing"]},
+    "cells.py": {"named_by": ["cell"]},
+    "machine.py": {"Machine": {
+        "__init__": ["self", "program", "rows", "room", "moments"], "do": ["self", "most"], "told": ["self", "deep", "most"],
+        "calls": ["self"], "made": ["self"], "record": ["self"], "cells": ["self"], "roots": ["self"], "sweep": ["self"],
+        "asked": ["self"],
+    }},
+    "sweeps.py": {"sweep_paper": ["cells", "roots"], "lets_sweep": ["cells", "roots", "thing"]},
 }
 
 BUILTINS = {
     "len", "range", "enumerate", "zip", "min", "max", "sum", "abs", "sorted", "reversed", "int", "str", "bool", "list",
-    "tuple", "dict", "set", "isinstance", "ord", "repr", "any", "all", "divmod", "ValueError", "KeyError", "super",
+    "tuple", "dict", "set", "isinstance", "ord", "repr", "any", "all", "divmod", "ValueError", "KeyError", "Exception", "super",
 }
 METHODS = {
     "append", "clear", "copy", "count", "endswith", "extend", "find", "get", "index", "insert", "isdigit", "items",
     "join", "keys", "pop", "remove", "replace", "reverse", "setdefault", "split", "startswith", "strip", "update",
     "values", "__init__",
 }
-BARRED = {"register", "mro", "elements", "open", "input", "law", "version_info", "type", "id", "vars", "dir", "exec", "eval"}
+BARRED = {"_record", "_written_out", "_cold", "_outside", "register", "mro", "elements", "open", "input", "law", "version_info", "type", "id", "vars", "dir", "exec", "eval"}
 
 
 def names_bound(tree):

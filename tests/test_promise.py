@@ -1,17 +1,20 @@
-"""Point 3, of putting in, nodes and papers: they agree, on many programs."""
+"""Point 3, of putting in, nodes, papers and the machine: they agree, on many programs."""
 
+import random
 import unittest
 
 from altered import changes
+from endings import all_endings, drawn_rows, names_of
 from lazywebs.doing import Doer
 from lazywebs.errors import More
 from lazywebs.judge import shows
 from lazywebs.looks import looked
+from lazywebs.machine import Machine
 from lazywebs.papers import paper_of
 from lazywebs.plain import led, plain_told
+from lazywebs.rowjudge import lets_by
 from lazywebs.rows import all_rows
 from made import GROWS, WAITS, asked_only, counting, gives, plus, programs, says
-from plainrows import PlainMachine
 from samples import ONE, fun, give, let, name, number
 
 MORE, RING = ("more",), ("ring",)
@@ -40,6 +43,20 @@ def rings_are_endless(nodes, plain):
     return True
 
 
+def rings_are_rings(machine, nodes):
+    """Whether the nodes tell a ring wherever the machine does."""
+    if machine == RING:
+        return nodes == RING
+    if len(machine) == 3 and machine[0] == "pair" and len(nodes) == 3:
+        return all(rings_are_rings(one, other) for one, other in zip(machine[1:], nodes[1:]))
+    return True
+
+
+def sorts_of_rows(program):
+    """Built rows, lean rows and rows between them."""
+    return [all_rows(program, True), all_rows(program, False), drawn_rows(program, random.Random(str(program)))]
+
+
 class Promise(unittest.TestCase):
     def test_nodes_come_to_what_putting_in_comes_to(self):
         for program in PROGRAMS:
@@ -54,16 +71,74 @@ class Promise(unittest.TestCase):
             for deep in (1, 2, 4):
                 self.assertTrue(agrees(plain_told(program, deep, 60), Doer(program).told(deep, 60)), program)
 
+    def test_the_machine_comes_to_what_putting_in_comes_to(self):
+        for program in PROGRAMS:
+            told, words = led(program, program[1], 400)
+            if told == MORE:
+                continue
+            doer = Doer(program)
+            doer.told(0, 400)
+            for rows in sorts_of_rows(program):
+                machine = Machine(program, rows, 4000, [])
+                # It needs no more calls than putting in, the nodes none more than it.
+                self.assertEqual(machine.do(words.count("call")), told)
+                self.assertLessEqual(machine.calls(), words.count("call"))
+                self.assertLessEqual(doer.calls(), machine.calls())
+
+    def test_the_machine_to_each_depth(self):
+        for program in PROGRAMS[:500]:
+            for deep in (1, 2, 4):
+                plain = plain_told(program, deep, 60)
+                for rows in sorts_of_rows(program):
+                    self.assertTrue(agrees(plain, Machine(program, rows, 4000, []).told(deep, 60)), program)
+
+    def test_where_the_machine_tells_a_ring_so_do_the_nodes(self):
+        rings = 0
+        for program in PROGRAMS:
+            nodes = Doer(program).told(2, 60)
+            for rows in sorts_of_rows(program):
+                machine = Machine(program, rows, 4000, []).told(2, 60)
+                self.assertTrue(rings_are_rings(machine, nodes), program)
+                rings += has_ring(machine)
+        self.assertGreater(rings, 300)
+
+    def test_by_whatever_rows_the_machine_tells_the_same(self):
+        for program in PROGRAMS[:600]:
+            one, *others = [Machine(program, rows, 4000, []).told(2, 60) for rows in sorts_of_rows(program)]
+            for other in others:
+                self.assertTrue(agrees(one, other) and agrees(other, one), program)
+
+    def test_by_all_the_rows_of_a_function_that_are_let_by(self):
+        many = 0
+        for program in PROGRAMS[:150]:
+            rows = all_rows(program, False)
+            due = Machine(program, rows, 4000, []).do(60)
+            for at, f in enumerate(names_of(program)):
+                if len(rows[at]) > 14:
+                    continue
+                for own in all_endings(program, f):
+                    self.assertIs(lets_by(program, f, own), True)
+                    told = Machine(program, rows[:at] + (own,) + rows[at + 1:], 4000, []).do(60)
+                    self.assertTrue(agrees(due, told) and agrees(told, due), program)
+                    many += 1
+        self.assertGreater(many, 500)
+
+    def test_rows_that_are_made_are_let_by(self):
+        for program in PROGRAMS:
+            for rows in sorts_of_rows(program):
+                for f, own in zip(names_of(program), rows):
+                    self.assertIs(lets_by(program, f, own), True)
+
     def test_no_more_calls_than_a_machine(self):
         for program in PROGRAMS[:600]:
             doer = Doer(program)
             told = doer.told(0, 60)
-            for lean in (True, False):
-                machine = PlainMachine(program, all_rows(program, lean))
-                came = machine.told(0, 60)
+            for rows in sorts_of_rows(program):
+                machine = Machine(program, rows, 4000, [])
+                came = machine.do(60)
                 if came != MORE:
                     self.assertEqual(told, came)
-                    self.assertLessEqual(doer.calls(), machine.calls)
+                    self.assertLessEqual(doer.calls(), machine.calls())
 
     def test_where_nodes_tell_a_ring_putting_in_never_ends(self):
         rings = 0
