@@ -40,6 +40,10 @@ INTERFACE = {
         "asked": ["self"],
     }},
     "sweeps.py": {"sweep_paper": ["cells", "roots"], "lets_sweep": ["cells", "roots", "thing"]},
+    "room.py": {"least_room": ["program", "rows", "deep", "most"]},
+    "writing.py": {"part_text": ["part"], "written": ["program"]},
+    "reading.py": {"read": ["text"]},
+    "desk.py": {"Desk": {"__init__": ["self"], "say": ["self", "row"]}},
 }
 
 BUILTINS = {

@@ -1,5 +1,6 @@
 """Point 3, of putting in, nodes, papers and the machine: they agree, on many programs."""
 
+import functools
 import random
 import unittest
 
@@ -12,13 +13,16 @@ from lazywebs.looks import looked
 from lazywebs.machine import Machine
 from lazywebs.papers import paper_of
 from lazywebs.plain import led, plain_told
+from lazywebs.reading import read
+from lazywebs.room import least_room
 from lazywebs.rowjudge import lets_by
 from lazywebs.rows import all_rows
+from lazywebs.writing import written
 from made import GROWS, WAITS, asked_only, counting, gives, plus, programs, says
 from samples import ONE, fun, give, let, name, number
 
 MORE, RING = ("more",), ("ring",)
-PROGRAMS = programs(20000, 1200)
+PROGRAMS = programs(20000, 900)
 
 
 def agrees(plain, other):
@@ -52,6 +56,7 @@ def rings_are_rings(machine, nodes):
     return True
 
 
+@functools.cache
 def sorts_of_rows(program):
     """Built rows, lean rows and rows between them."""
     return [all_rows(program, True), all_rows(program, False), drawn_rows(program, random.Random(str(program)))]
@@ -122,6 +127,30 @@ class Promise(unittest.TestCase):
                     self.assertTrue(agrees(due, told) and agrees(told, due), program)
                     many += 1
         self.assertGreater(many, 500)
+
+    def test_the_four_ways_agree_at_moments_and_in_the_least_room(self):
+        tight = 0
+        for program in PROGRAMS[:350]:
+            plain = plain_told(program, 2, 25)
+            nodes = Doer(program).told(2, 25)
+            self.assertTrue(agrees(plain, nodes))
+            for rows in sorts_of_rows(program):
+                machine = Machine(program, rows, 4000, [])
+                due = (machine.told(2, 25), machine.calls(), machine.made())
+                self.assertTrue(agrees(plain, due[0]) and agrees(due[0], nodes), program)
+                least = least_room(program, rows, 2, 25)
+                for room, moments in ((least, []), (least, [2, 3, 5, 8, 13]), (least + 3, [1]), (4000, range(1, due[2] + 1))):
+                    swept = Machine(program, rows, room, list(moments))
+                    self.assertEqual((swept.told(2, 25), swept.calls(), swept.made()), due)
+                tight += least < len(machine.cells())
+        self.assertGreater(tight, 300)
+
+    def test_a_program_written_and_read_is_done_alike(self):
+        for program in PROGRAMS[:300]:
+            again = read(written(program))
+            self.assertEqual(plain_told(again, 1, 60), plain_told(program, 1, 60))
+            self.assertEqual(Doer(again).told(1, 60), Doer(program).told(1, 60))
+            self.assertEqual(all_rows(again, True), all_rows(program, True))
 
     def test_rows_that_are_made_are_let_by(self):
         for program in PROGRAMS:
