@@ -174,6 +174,20 @@ class Wrong(JudgeCase):
                         counts[due] += 1
         self.assertGreater(counts[False], 20000)
 
+    def test_rows_that_are_cut(self):
+        for program in programs(34000, 200):
+            for f in names_of(program):
+                for rows in (built_rows(program, f), lean_rows(program, f)):
+                    for at in range(len(rows)):
+                        self.assertIs(lets_by(program, f, rows[:at]), False)
+                        self.assertIs(lets_by(program, f, rows[at + 1:]), False)
+                        # A turn cut within, and what stands behind it left out.
+                        if rows[at][0] == "turn":
+                            for cut in range(len(rows[at][1])):
+                                turn = ("turn", rows[at][1][:cut], rows[at][2])
+                                self.assertIs(lets_by(program, f, rows[:at] + (turn,)), False)
+                                self.assertIs(lets_by(program, f, rows[:at] + (turn,) + rows[at + 1:]), False)
+
     def test_changes_within_the_rows_of_a_turn(self):
         body = ("when", plus(a, b), ("left", ("pair", a, ONE)), let([("x", fun("none"))], give(name("x"), number(-3))))
         program = of_body(body)
