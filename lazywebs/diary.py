@@ -54,7 +54,7 @@ class Diary:
         # From the last making to the first one: what is found ahead of a making
         # could be come to until then, and by it what it named then.
         found = [[] for _ in range(self._made + 1)]
-        found[self._made].extend(range(self._first))
+        found[self._made].extend(list(range(self._first)))
         for number, making in self._let_go.items():
             found[making].append(number)
         until = {}

@@ -7,6 +7,7 @@ import unittest
 import warnings
 
 import lazywebs
+from walks import kept_rows
 
 FOLDER = os.path.dirname(os.path.abspath(lazywebs.__file__))
 LIBRARY = {"heapq", "math", "itertools", "collections"}
@@ -55,6 +56,25 @@ METHODS = {
     "join", "keys", "pop", "remove", "replace", "reverse", "setdefault", "split", "startswith", "strip", "update",
     "values", "__init__",
 }
+KEPT = (
+    "range(k)", "zip(xs, ys)", "enumerate(xs)", "reversed(xs)", "d.items()", "d.keys()", "self.d.values()",
+    "map(str, xs)", "product(xs, ys)", "chain.from_iterable(xs)", "(x for x in xs)",
+)
+# Rows that do not walk what stands for HERE on the spot, and rows that do.
+KEEPING = (
+    "xs.extend(HERE)", "xs[k].extend(HERE)", "xs.extend(ys if k else HERE)", "xs.extend((HERE))", "d.update(HERE)",
+    "xs += HERE", "xs = HERE", "xs[1:2] = HERE", "xs.append(HERE)", "return HERE", "f(HERE)", "f(*HERE)", "set(HERE)",
+    "xs = [*HERE]", "xs = [HERE]", "xs == HERE", "HERE == xs", "HERE in xs", "list(zip(xs, HERE))", "min(k, HERE)",
+    "min(HERE, key=len)", "glue.join(HERE)", "sorted(xs, key=HERE)", "for x in xs or HERE:\n    pass",
+    "for x in ys.extend(HERE):\n    pass",
+)
+WALKING = (
+    "for x in HERE:\n    pass", "xs = [x for x in HERE]", "xs = [x for y in ys for x in HERE]",
+    "d = {x: 1 for x in HERE}", "xs.extend(list(HERE))", "xs.extend([x for x in HERE])", "xs = tuple(HERE)",
+    "d = dict(HERE)", "sorted(HERE, reverse=True)", "sum(HERE, start=1)", "any(HERE)", "all(HERE)",
+    "for x in enumerate(HERE):\n    pass", "for x in zip(HERE, xs):\n    pass", "min(HERE)", "max(HERE, default=0)",
+    "' '.join(HERE)",
+)
 BARRED = {"_record", "_written_out", "_cold", "_outside", "register", "mro", "elements", "open", "input", "law", "version_info", "type", "id", "vars", "dir", "exec", "eval"}
 
 
@@ -207,6 +227,10 @@ class Language(unittest.TestCase):
             for file in ready:
                 del left[file]
 
+    def test_ranges_zips_views_and_their_like_are_walked_on_the_spot(self):
+        for file, tree in self.trees.items():
+            self.assertEqual(kept_rows(tree), [], file)
+
     def test_is_stands_beside_none_true_and_false_alone(self):
         for file, tree in self.trees.items():
             for node in ast.walk(tree):
@@ -228,3 +252,37 @@ class Language(unittest.TestCase):
         for file, tree in self.trees.items():
             for node in ast.walk(tree):
                 self.assertNotIsInstance(node, barred, file)
+
+
+class Walks(unittest.TestCase):
+    """That a range, zip, view or the like is found where it is not walked on the spot, and there alone."""
+
+    def test_what_is_kept_is_found(self):
+        for row in KEEPING:
+            for kept in KEPT:
+                self.assertEqual(kept_rows(ast.parse(row.replace("HERE", kept))), [1], (row, kept))
+
+    def test_what_is_walked_on_the_spot_is_not_found(self):
+        for row in WALKING:
+            for walked in KEPT:
+                self.assertEqual(kept_rows(ast.parse(row.replace("HERE", walked))), [], (row, walked))
+
+    def test_only_ranges_and_views_are_measured_and_looked_into_as_they_stand(self):
+        for row in ("len(HERE)", "k in HERE", "k not in HERE"):
+            for walked in ("range(k)", "d.items()", "d.keys()", "d.values()"):
+                self.assertEqual(kept_rows(ast.parse(row.replace("HERE", walked))), [], (row, walked))
+            for kept in ("zip(xs, ys)", "enumerate(xs)", "reversed(xs)"):
+                self.assertEqual(kept_rows(ast.parse(row.replace("HERE", kept))), [1], (row, kept))
+
+    def test_only_ranges_are_reversed_as_they_stand(self):
+        self.assertEqual(kept_rows(ast.parse("list(reversed(range(k)))")), [])
+        for kept in ("zip(xs, ys)", "enumerate(xs)", "reversed(xs)", "d.items()", "d.keys()", "d.values()"):
+            self.assertEqual(kept_rows(ast.parse(f"list(reversed({kept}))")), [1], kept)
+
+    def test_what_goes_over_lists_is_not_found(self):
+        for row in ("xs.extend(ys)", "xs.extend([1, 2])", "xs.extend(ys[::-1])", "xs.extend(f(ys))", "xs += [1]"):
+            self.assertEqual(kept_rows(ast.parse(row)), [], row)
+
+    def test_each_row_is_found_by_its_number(self):
+        text = "xs = []\nxs.extend(range(3))\nfor x in range(3):\n    ys = zip(xs, xs)"
+        self.assertEqual(kept_rows(ast.parse(text)), [2, 4])
